@@ -1,0 +1,1 @@
+"""Pages that tell the last deeds again."""

@@ -1,0 +1,53 @@
+"""Rows of deeds: how they repeat, and their places in order."""
+
+from pagesagain.checks import is_number
+from pagesagain.errors import Refused
+from pagesagain.machines import LONGEST_ROW, check_row
+
+
+def repeat_end(machine, row, step):
+    """The length of the longest end of the row that repeats with the step."""
+    deeds = check_row(machine, row)
+    if not is_number(step, 1, LONGEST_ROW):
+        raise Refused(step)
+    length = min(step, len(deeds))
+    while length < len(deeds) and deeds[-length - 1] == deeds[step - length - 1]:
+        length += 1
+    return length
+
+
+def repeat_steps(machine, row):
+    """The ascending steps, below the row's length, with which all of it repeats."""
+    deeds = check_row(machine, row)
+    many = len(deeds)
+    return tuple([step for step in range(1, many) if deeds[step:] == deeds[:many - step]])
+
+
+def nth_row(machine, many, number):
+    """Of the rows of so many deeds, ascending, that of the number."""
+    if not is_number(many, 0, LONGEST_ROW):
+        raise Refused(many)
+    if not is_number(number, 0, _row_count(machine, many) - 1):
+        raise Refused(number)
+    deeds = []
+    left = number
+    for _ in range(many):
+        left, deed = divmod(left, machine.deeds)
+        deeds.append(deed)
+    return tuple(reversed(deeds))
+
+
+def row_place(machine, row):
+    """The row's number among the rows of as many deeds, ascending."""
+    place = 0
+    for deed in check_row(machine, row):
+        place = place * machine.deeds + deed
+    return place
+
+
+def _row_count(machine, many):
+    """How many rows of so many deeds there are."""
+    count = 1
+    for _ in range(many):
+        count = count * machine.deeds
+    return count
