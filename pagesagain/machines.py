@@ -2,6 +2,7 @@
 
 from pagesagain.checks import is_number, is_sequence
 from pagesagain.errors import BadMachine, BadRow, NoDeed, NoState
+from pagesagain.walks import first_walks
 
 MOST_STATES = 8
 MOST_DEEDS = 4
@@ -57,6 +58,16 @@ def need_deed(machine, deed):
     return deed
 
 
+def are_deeds(machine, value):
+    """Whether any value is a sequence of deeds of the machine, however many."""
+    return isinstance(value, (list, tuple)) and all([is_deed(machine, deed) for deed in value])
+
+
+def is_row(machine, value, most=LONGEST_ROW):
+    """Whether any value is a sequence of at most so many deeds."""
+    return is_sequence(value, 0, most) and are_deeds(machine, value)
+
+
 def check_row(machine, value):
     """The row as a tuple; BadRow for any value that is none."""
     if not is_sequence(value, 0, LONGEST_ROW):
@@ -83,21 +94,21 @@ def lead(machine, state, deeds):
 def reached(machine, state):
     """The ascending states to which rows lead the state."""
     need_state(machine, state)
-    return tuple([pair[0] for pair in counted_states(machine, state, 1)])
+    return tuple(sorted(first_rows(machine, state)))
 
 
-def counted_states(machine, state, modulus):
-    """The ascending pairs (state, number) to which rows lead, the number being that of their deeds, modulo."""
-    seen = {(state, 0)}
-    waiting = [(state, 0)]
-    while waiting:
-        here, number = waiting.pop()
-        for table in machine.tables:
-            pair = (table[here], (number + 1) % modulus)
-            if pair not in seen:
-                seen.add(pair)
-                waiting.append(pair)
-    return sorted(seen)
+def first_rows(machine, state):
+    """By state to which rows lead the state, the first such row, in the order of these rows."""
+    rows = counted_rows(machine, state, 1)
+    return {there: rows[there, number] for there, number in rows}
+
+
+def counted_rows(machine, state, modulus):
+    """By (state, number) the first row that leads the state so, the number being that of its deeds, modulo."""
+    def follow(pair):
+        here, number = pair
+        return [(table[here], (number + 1) % modulus) for table in machine.tables]
+    return first_walks((state, 0), follow)
 
 
 def states_behind(machine, states, many):

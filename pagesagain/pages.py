@@ -1,12 +1,9 @@
 """Links, the pages that are sent over them, and what fits behind a sight."""
 
+from pagesagain.bounds import need_length, need_loss, need_modulus
 from pagesagain.checks import is_number, is_sequence
 from pagesagain.errors import BadPage, Refused
-from pagesagain.machines import check_row, counted_states, is_deed, is_state, lead, need_state, states_behind
-
-LONGEST_PAGE = 12
-MOST_LOSS = 8
-MOST_MODULUS = 9
+from pagesagain.machines import check_row, counted_rows, is_row, is_state, lead, need_state, states_behind
 
 
 class Link:
@@ -14,17 +11,11 @@ class Link:
 
     def __init__(self, machine, first, length, loss, modulus=1):
         need_state(machine, first)
-        if not is_number(length, 0, LONGEST_PAGE):
-            raise Refused(length)
-        if not is_number(loss, 0, MOST_LOSS):
-            raise Refused(loss)
-        if not is_number(modulus, 1, MOST_MODULUS):
-            raise Refused(modulus)
         self.machine = machine
         self.first = first
-        self.length = length
-        self.loss = loss
-        self.modulus = modulus
+        self.length = need_length(length)
+        self.loss = need_loss(loss)
+        self.modulus = need_modulus(modulus)
 
     def __eq__(self, other):
         return (isinstance(other, Link) and self.machine == other.machine and self.first == other.first
@@ -33,21 +24,21 @@ class Link:
 
 def page_of(link, row):
     """The page behind a history."""
-    return _page_behind(link, check_row(link.machine, row))
+    return page_behind(link, check_row(link.machine, row))
 
 
 def check_page(link, value):
     """The page as tuples; BadPage for any value that is none."""
-    fault = _page_fault(link, value)
+    fault = page_fault(link, value)
     if fault is not None:
         raise BadPage(fault)
-    return _as_page(value)
+    return as_page(value)
 
 
 def sight_of(link, row):
     """The state behind a history, and its page."""
     deeds = check_row(link.machine, row)
-    return (lead(link.machine, link.first, deeds), _page_behind(link, deeds))
+    return (lead(link.machine, link.first, deeds), page_behind(link, deeds))
 
 
 def sent_states(link, page):
@@ -60,9 +51,9 @@ def check_sight(link, value):
     if not is_sequence(value, 2, 2):
         raise Refused(value)
     state, page = value
-    if not is_state(link.machine, state) or _page_fault(link, page) is not None:
+    if not is_state(link.machine, state) or page_fault(link, page) is not None:
         raise Refused(value)
-    told = _as_page(page)
+    told = as_page(page)
     if state not in _states_of(link, told):
         raise Refused(value)
     return (state, told)
@@ -84,23 +75,23 @@ def fitting_states(link, sight, page):
     return tuple(sorted(set(found)))
 
 
-def _last_deeds(deeds, many):
+def last_deeds(deeds, many):
     """The last so many deeds, all of them if there are fewer."""
     # A slice from -many on would be all deeds for none.
     return deeds[max(0, len(deeds) - many):]
 
 
-def _page_behind(link, deeds):
+def page_behind(link, deeds):
     """The page behind deeds that were looked at before."""
-    return (_last_deeds(deeds, link.length), len(deeds) % link.modulus)
+    return (last_deeds(deeds, link.length), len(deeds) % link.modulus)
 
 
-def _page_fault(link, value):
+def page_fault(link, value):
     """What BadPage tells of any value, None for a page."""
     if not is_sequence(value, 2, 2):
         return -1
     deeds, number = value
-    if not is_sequence(deeds, 0, link.length) or not all([is_deed(link.machine, deed) for deed in deeds]):
+    if not is_row(link.machine, deeds, link.length):
         return 0
     if not is_number(number, 0, link.modulus - 1):
         return 1
@@ -109,7 +100,7 @@ def _page_fault(link, value):
     return None
 
 
-def _as_page(value):
+def as_page(value):
     """A page as tuples."""
     deeds, number = value
     return (tuple(deeds), number)
@@ -123,7 +114,7 @@ def _states_of(link, page):
         # Such a page tells its whole history.
         return (lead(machine, link.first, deeds),)
     ahead = (number - len(deeds)) % link.modulus
-    counted = counted_states(machine, link.first, link.modulus)
+    counted = counted_rows(machine, link.first, link.modulus)
     return tuple(sorted({lead(machine, state, deeds) for state, many in counted if many == ahead}))
 
 
@@ -136,12 +127,12 @@ def _fits(link, heard, then, many):
     """Whether some row of so many deeds leaves a page behind the one that was heard."""
     deeds, number = then
     # Deeds that the page does not tell may be any, so they stand here as deeds 0.
-    row = (0,) * (many - len(deeds)) + _last_deeds(deeds, many)
-    return _last_deeds(heard[0] + row, link.length) == deeds and (heard[1] + many) % link.modulus == number
+    row = (0,) * (many - len(deeds)) + last_deeds(deeds, many)
+    return last_deeds(heard[0] + row, link.length) == deeds and (heard[1] + many) % link.modulus == number
 
 
 def _led_by_page(machine, state, deeds, many):
     """The states to which rows of so many deeds that end as the page's deeds do lead the state."""
     # Only deeds ahead of those that the page tells, if there are such, may be any.
     heads = states_behind(machine, [state], many - len(deeds))
-    return [lead(machine, head, _last_deeds(deeds, many)) for head in heads]
+    return [lead(machine, head, last_deeds(deeds, many)) for head in heads]

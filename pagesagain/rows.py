@@ -1,15 +1,13 @@
 """Rows of deeds: how they repeat, and their places in order."""
 
-from pagesagain.checks import is_number
-from pagesagain.errors import Refused
+from pagesagain.checks import need_number
 from pagesagain.machines import LONGEST_ROW, check_row
 
 
 def repeat_end(machine, row, step):
     """The length of the longest end of the row that repeats with the step."""
     deeds = check_row(machine, row)
-    if not is_number(step, 1, LONGEST_ROW):
-        raise Refused(step)
+    need_number(step, 1, LONGEST_ROW)
     length = min(step, len(deeds))
     while length < len(deeds) and deeds[-length - 1] == deeds[step - length - 1]:
         length += 1
@@ -19,16 +17,18 @@ def repeat_end(machine, row, step):
 def repeat_steps(machine, row):
     """The ascending steps, below the row's length, with which all of it repeats."""
     deeds = check_row(machine, row)
-    many = len(deeds)
-    return tuple([step for step in range(1, many) if deeds[step:] == deeds[:many - step]])
+    return tuple([step for step in range(1, len(deeds)) if repeats(deeds, step)])
+
+
+def repeats(deeds, step):
+    """Whether deeds, at least as many as the step, repeat with it."""
+    return deeds[step:] == deeds[:len(deeds) - step]
 
 
 def nth_row(machine, many, number):
     """Of the rows of so many deeds, ascending, that of the number."""
-    if not is_number(many, 0, LONGEST_ROW):
-        raise Refused(many)
-    if not is_number(number, 0, _row_count(machine, many) - 1):
-        raise Refused(number)
+    need_number(many, 0, LONGEST_ROW)
+    need_number(number, 0, row_count(machine, many) - 1)
     deeds = []
     left = number
     for _ in range(many):
@@ -45,9 +45,17 @@ def row_place(machine, row):
     return place
 
 
-def _row_count(machine, many):
+def row_count(machine, many):
     """How many rows of so many deeds there are."""
     count = 1
     for _ in range(many):
         count = count * machine.deeds
     return count
+
+
+def all_rows(machine, many):
+    """All rows of so many deeds, ascending."""
+    rows = [()]
+    for _ in range(many):
+        rows = [row + (deed,) for row in rows for deed in range(machine.deeds)]
+    return rows

@@ -4,7 +4,7 @@ import itertools
 import unittest
 
 from pagesagain.errors import BadMachine, BadPage, BadRow, BadText, NoDeed, NoState, PageError, Refused, TooGreat
-from pagesagain.machines import Machine
+from pagesagain.machines import Machine, led, reached
 from pagesagain.pages import Link
 
 KEPT = {BadMachine: "at", BadRow: "at", BadPage: "at", BadText: "at", Refused: "at", TooGreat: "most",
@@ -12,6 +12,10 @@ KEPT = {BadMachine: "at", BadRow: "at", BadPage: "at", BadText: "at", Refused: "
 
 WORN = Machine([(1, 2, 2), (0, 0, 1)])
 ONE = Machine([(0,)])
+SWITCH = Machine([(1, 0)])
+STAIRS = Machine([(1, 2, 2), (0, 1, 2)])
+HOUR = Machine([(1, 2, 0)])
+LIFT = Machine([(0, 0, 1, 2), (1, 2, 3, 3)])
 GREAT = Machine([tuple(range(8)), (1, 2, 3, 4, 5, 6, 7, 0), (0,) * 8, (7,) * 8])
 
 
@@ -33,15 +37,104 @@ def no_numbers(least, greatest):
     return NO_INTEGERS + [least - 1, greatest + 1, -1 - greatest, -10 ** 30, 10 ** 30]
 
 
+def no_numbers_from(least):
+    """Values that are no number from the least one on."""
+    return NO_INTEGERS + [least - 1, -1 - least, -10 ** 30]
+
+
+ANY = NO_INTEGERS + NO_SEQUENCES
+NO_ROWS = NO_SEQUENCES + [[4], (-1,), [True], (0, None), [[0]], ("0",), [0, 0, False], (10 ** 30,)]
+
+
+def bent(paper):
+    """Values of any kind, and the paper with an item too few, too many, or one of another kind."""
+    yield from ANY
+    for change in (paper[:-1], paper[1:], paper + ((),), paper + (None,), (paper,), paper[:1] + paper):
+        yield change
+        yield list(change)
+    for word in ANY + ["", paper[0] + "s", paper[0].upper(), [paper[0]], "other"]:
+        yield (word,) + paper[1:]
+    for at in range(1, len(paper)):
+        for value in NO_ROWS:
+            yield paper[:at] + (value,) + paper[at + 1:]
+
+
+def rows_of(deeds, many):
+    """All rows of so many deeds."""
+    return list(itertools.product(range(deeds), repeat=many))
+
+
 def rows_to(deeds, longest):
     """All rows of at most so many deeds."""
-    return [row for many in range(longest + 1) for row in itertools.product(range(deeds), repeat=many)]
+    return [row for many in range(longest + 1) for row in rows_of(deeds, many)]
 
 
 def machines_of(states, deeds):
     """All machines of so many states and deeds."""
     tables = list(itertools.product(range(states), repeat=states))
     return [Machine(chosen) for chosen in itertools.product(tables, repeat=deeds)]
+
+
+def told_page(link, row):
+    """The page as the document tells it, deed by deed."""
+    deeds = [row[at] for at in range(len(row)) if at >= len(row) - link.length]
+    number = len(row)
+    while number >= link.modulus:
+        number -= link.modulus
+    return (tuple(deeds), number)
+
+
+def told_sight(link, row):
+    return (led(link.machine, link.first, row), told_page(link, row))
+
+
+def short_histories(link):
+    """Enough of them for all sights: each state with each number is reached ahead of the deeds that are told."""
+    return rows_to(link.machine.deeds, link.length + link.machine.states * link.modulus - 1)
+
+
+def told_sights(link):
+    """By sight the first row that leaves it, by rows that grow deed by deed."""
+    found = {told_sight(link, ()): ()}
+    rows = [()]
+    while rows:
+        longer = [row + (deed,) for row in rows for deed in range(link.machine.deeds)]
+        rows = []
+        for row in longer:
+            if told_sight(link, row) not in found:
+                found[told_sight(link, row)] = row
+                rows.append(row)
+    return found
+
+
+def told_open(link):
+    """The pairs of states left open behind the sights that come, by all rows that can be lost."""
+    pairs = set()
+    lost = rows_to(link.machine.deeds, link.loss)
+    for sight, history in told_sights(link).items():
+        states = {}
+        for row in lost:
+            states.setdefault(told_page(link, history + row), set()).add(led(link.machine, sight[0], row))
+        for those in states.values():
+            pairs.update(itertools.combinations(sorted(those), 2))
+    return tuple(sorted(pairs))
+
+
+def turns_round(machine, state, row):
+    """Whether the row leads the state elsewhere but, again and again, back."""
+    there = led(machine, state, row)
+    if there == state:
+        return False
+    for _ in range(machine.states):
+        there = led(machine, there, row)
+        if there == state:
+            return True
+    return False
+
+
+def turns_some(machine, first, row):
+    """Whether the row leads round some state to which rows lead the first one."""
+    return any(turns_round(machine, state, row) for state in reached(machine, first))
 
 
 class Case(unittest.TestCase):
@@ -59,3 +152,13 @@ class Case(unittest.TestCase):
             self.same(told, kept)
         else:
             self.assertIs(told, kept)
+
+    def searched(self, expected, things, most, call, *args, **named):
+        """That this is the answer, or TooGreat of the bound, if there are more of the things to look at."""
+        try:
+            told = call(*args, most=most, **named)
+        except TooGreat as error:
+            self.same(error.most, most)
+            self.assertGreater(things, most)
+        else:
+            self.same(told, expected)

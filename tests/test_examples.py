@@ -4,12 +4,23 @@ import doctest
 import os
 import unittest
 
+from pagesagain.court import court_paper, is_right, least_length, open_pairs, runs_hold
+from pagesagain.lengths import least_from, length_paper, rounds_of
 from pagesagain.machines import Machine, led, reached
 from pagesagain.pages import Link, fitting, fitting_states, page_of, sent_states, sight_of
+from pagesagain.repeats import harm_holds, harm_of
 from pagesagain.rows import repeat_end, repeat_steps
+from pagesagain.sights import heard_sight, sight_row, sights_of
+from pagesagain.texts import link_text, page_text
 from tests.helper import Case
 
 README = os.path.join(os.path.dirname(os.path.dirname(os.path.abspath(__file__))), "README.md")
+
+
+class Chapter1(Case):
+    def test_stair_and_switch(self):
+        stair, switch = Machine([(1, 2, 2)]), Machine([(1, 0)])
+        self.same((least_length(stair, 0, 1), least_length(switch, 0, 1), least_length(switch, 0, 1, 2)), (2, None, 0))
 
 
 class Chapter3(Case):
@@ -24,7 +35,40 @@ class Chapter3(Case):
                   (((1, 1), 0), (2, ((0, 0), 0)), (0, 1)))
         sight = (2, ((0, 0), 0))
         self.same((fitting(link, sight, ((0, 0), 0)), fitting(link, sight, ((0, 1), 0))), ((0, 1, 2, 3), (1, 2, 3)))
-        self.same(fitting_states(link, sight, ((0, 1), 0)), (1,))
+        self.same((fitting_states(link, sight, ((0, 1), 0)), page_text(link, ((0, 1), 0)), link_text(link)[-12:]),
+                  ((1,), '0 1:0', 'link 0 2 3 1'))
+
+
+class Chapter4(Case):
+    def test_least_lengths(self):
+        steps, turn = Machine([(1, 2, 2)]), Machine([(1, 0)])
+        self.same((least_length(steps, 0, 1), least_length(steps, 0, 2), least_length(turn, 0, 1),
+                   least_length(turn, 0, 1, 2)), (2, 2, None, 0))
+
+    def test_a_link(self):
+        steps = Machine([(1, 2, 2)])
+        link = Link(steps, 0, 1, 1)
+        self.same(sights_of(link), ((0, ((), 0)), (1, ((0,), 0)), (2, ((0,), 0))))
+        self.same((is_right(link), open_pairs(link), runs_hold(link, ("runs", (0,), (), [0])),
+                   heard_sight(link, (1, ((0,), 0)), ((0,), 0))), (False, ((1, 2),), True, None))
+        self.same((sight_row(link, (2, ((0,), 0))), heard_sight(link, (0, ((), 0)), ((0,), 0)),
+                   court_paper(Link(steps, 0, 2, 1))), ((0, 0), (1, ((0,), 0)), None))
+
+
+class Chapter5(Case):
+    def test_stairs(self):
+        stairs = Machine([(1, 2, 2), (0, 1, 2)])
+        self.same((harm_of(stairs, 0, 1, 0), harm_of(stairs, 0, 2, 0), harm_of(Machine([(1, 0)]), 0, 1, 0)),
+                  (('ends', 1), ('ends', 3), ('endless',)))
+        self.same((least_from(stairs, 0, 1), least_from(stairs, 0, 2), least_from(stairs, 0, 3),
+                   rounds_of(stairs, 0, 3)), (2, 4, 6, 2))
+        self.same((length_paper(stairs, 0, 3, 2)[:2], harm_holds(stairs, 0, 2, 0, 3, ("harm", [1, 0, 1], ()))),
+                  ((2, 0), True))
+
+    def test_a_turn(self):
+        turn = Machine([(1, 0)])
+        self.same((least_from(turn, 0, 1), least_from(turn, 0, 1, 2), least_from(turn, 0, 3, 2),
+                   rounds_of(turn, 0, 1)), (None, 1, 3, None))
 
 
 class Readme(Case):

@@ -6,28 +6,10 @@ import unittest
 from pagesagain.errors import BadPage, BadRow, NoState, Refused
 from pagesagain.machines import Machine, led, reached
 from pagesagain.pages import (Link, check_page, check_sight, fitting, fitting_states, page_of, sent_states, sight_of)
-from tests.helper import GREAT, NO_INTEGERS, NO_SEQUENCES, ONE, WORN, Case, machines_of, no_numbers, rows_to
+from tests.helper import (GREAT, NO_INTEGERS, NO_SEQUENCES, ONE, SWITCH, WORN, Case, machines_of, no_numbers, rows_to,
+                          short_histories, told_page, told_sight)
 
-SWITCH = Machine([(1, 0)])
 THREES = machines_of(3, 2)[5::97] + [WORN, Machine([(1, 2, 2), (0, 1, 2)])]
-
-
-def told_page(link, row):
-    """The page as the document tells it, deed by deed."""
-    deeds = [row[at] for at in range(len(row)) if at >= len(row) - link.length]
-    number = len(row)
-    while number >= link.modulus:
-        number -= link.modulus
-    return (tuple(deeds), number)
-
-
-def told_sight(link, row):
-    return (led(link.machine, link.first, row), told_page(link, row))
-
-
-def short_histories(link):
-    """Enough of them for all sights: each state with each number is reached ahead of the deeds that are told."""
-    return rows_to(link.machine.deeds, link.length + link.machine.states * link.modulus - 1)
 
 
 def pages_of(link):
