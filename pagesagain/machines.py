@@ -111,8 +111,6 @@ def counted_rows(machine, state, modulus):
     return first_walks((state, 0), follow)
 
 
-def states_behind(machine, states, many):
-    """The ascending states to which rows of just so many deeds lead the ascending states."""
-    for _ in range(many):
-        states = sorted({table[state] for table in machine.tables for state in states})
-    return states
+def states_behind(machine, states):
+    """The ascending states to which single deeds lead the states."""
+    return sorted({table[state] for table in machine.tables for state in states})

@@ -62,17 +62,14 @@ def check_sight(link, value):
 def fitting(link, sight, page):
     """The ascending numbers of deeds that fit between the sight and the page."""
     _, heard = check_sight(link, sight)
-    return tuple(_fitting_numbers(link, heard, check_page(link, page)))
+    then = check_page(link, page)
+    return tuple([many for many in range(link.loss + 1) if _fits(link, heard, then, many)])
 
 
 def fitting_states(link, sight, page):
     """The ascending states to which rows that leave the page behind the sight lead its state."""
     state, heard = check_sight(link, sight)
-    then = check_page(link, page)
-    found = []
-    for many in _fitting_numbers(link, heard, then):
-        found.extend(_led_by_page(link.machine, state, then[0], many))
-    return tuple(sorted(set(found)))
+    return states_left(link, (state,), heard, check_page(link, page), link.loss)
 
 
 def last_deeds(deeds, many):
@@ -84,6 +81,30 @@ def last_deeds(deeds, many):
 def page_behind(link, deeds):
     """The page behind deeds that were looked at before."""
     return (last_deeds(deeds, link.length), len(deeds) % link.modulus)
+
+
+def page_later(link, page, row):
+    """The page behind a page and a row."""
+    deeds, number = page
+    return (last_deeds(deeds + row, link.length), (number + len(row)) % link.modulus)
+
+
+def states_left(link, states, heard, then, loss):
+    """The ascending states to which rows that leave a page behind the one that was heard lead the states.
+
+    The rows have at most so many deeds.
+    """
+    machine = link.machine
+    deeds, _ = then
+    heads = states
+    found = []
+    for many in range(loss + 1):
+        # Only deeds ahead of those that the page tells, if there are such, may be any.
+        if many > len(deeds):
+            heads = states_behind(machine, heads)
+        if _fits(link, heard, then, many):
+            found.extend([lead(machine, head, last_deeds(deeds, many)) for head in heads])
+    return tuple(sorted(set(found)))
 
 
 def page_fault(link, value):
@@ -118,21 +139,13 @@ def _states_of(link, page):
     return tuple(sorted({lead(machine, state, deeds) for state, many in counted if many == ahead}))
 
 
-def _fitting_numbers(link, heard, then):
-    """The ascending numbers of deeds that fit between two pages, of which the first one was heard."""
-    return [many for many in range(link.loss + 1) if _fits(link, heard, then, many)]
-
-
 def _fits(link, heard, then, many):
     """Whether some row of so many deeds leaves a page behind the one that was heard."""
-    deeds, number = then
+    return page_later(link, heard, _row_to(then, many)) == then
+
+
+def _row_to(then, many):
+    """The first row of so many deeds that can leave the page, if there is one."""
+    deeds, _ = then
     # Deeds that the page does not tell may be any, so they stand here as deeds 0.
-    row = (0,) * (many - len(deeds)) + last_deeds(deeds, many)
-    return last_deeds(heard[0] + row, link.length) == deeds and (heard[1] + many) % link.modulus == number
-
-
-def _led_by_page(machine, state, deeds, many):
-    """The states to which rows of so many deeds that end as the page's deeds do lead the state."""
-    # Only deeds ahead of those that the page tells, if there are such, may be any.
-    heads = states_behind(machine, [state], many - len(deeds))
-    return [lead(machine, head, last_deeds(deeds, many)) for head in heads]
+    return (0,) * (many - len(deeds)) + last_deeds(deeds, many)

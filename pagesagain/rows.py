@@ -2,6 +2,7 @@
 
 from pagesagain.checks import need_number
 from pagesagain.machines import LONGEST_ROW, check_row
+from pagesagain.powers import power
 
 
 def repeat_end(machine, row, step):
@@ -47,10 +48,7 @@ def row_place(machine, row):
 
 def row_count(machine, many):
     """How many rows of so many deeds there are."""
-    count = 1
-    for _ in range(many):
-        count = count * machine.deeds
-    return count
+    return power(machine.deeds, many)
 
 
 def all_rows(machine, many):

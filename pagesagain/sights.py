@@ -1,7 +1,7 @@
 """The sights that come over a link, and what is heard behind them."""
 
 from pagesagain.errors import Refused, TooGreat
-from pagesagain.pages import check_page, check_sight, fitting_states, last_deeds
+from pagesagain.pages import check_page, check_sight, fitting_states, page_later
 from pagesagain.walks import first_walks
 
 MOST_SIGHTS = 4000
@@ -37,7 +37,4 @@ def sight_rows(link, most):
 def next_sights(link, sight):
     """By deed the sight one deed behind a sight."""
     state, page = sight
-    deeds, number = page
-    ahead = (number + 1) % link.modulus
-    return [(table[state], (last_deeds(deeds + (deed,), link.length), ahead))
-            for deed, table in enumerate(link.machine.tables)]
+    return [(table[state], page_later(link, page, (deed,))) for deed, table in enumerate(link.machine.tables)]

@@ -107,17 +107,53 @@ def told_sights(link):
     return found
 
 
-def told_open(link):
-    """The pairs of states left open behind the sights that come, by all rows that can be lost."""
-    pairs = set()
+def told_open_by_number(link):
+    """By number the pairs of states that pages with it leave open behind the sights that come, by all rows lost."""
+    pairs = [set() for _ in range(link.modulus)]
     lost = rows_to(link.machine.deeds, link.loss)
     for sight, history in told_sights(link).items():
         states = {}
         for row in lost:
             states.setdefault(told_page(link, history + row), set()).add(led(link.machine, sight[0], row))
-        for those in states.values():
-            pairs.update(itertools.combinations(sorted(those), 2))
-    return tuple(sorted(pairs))
+        for page, those in states.items():
+            pairs[page[1]].update(itertools.combinations(sorted(those), 2))
+    return pairs
+
+
+def told_open(link):
+    """The pairs of states that any pages leave open."""
+    return tuple(sorted(set().union(*told_open_by_number(link))))
+
+
+def told_colouring(states, pairs):
+    """The least tuple with the fewest colours: all tuples tried in their order."""
+    for many in range(1, states + 1):
+        for colours in itertools.product(range(many), repeat=states):
+            if all(colours[one] != colours[other] for one, other in pairs):
+                return colours
+    return None
+
+
+def next_page(link, page, deed):
+    """The page one deed behind a page."""
+    deeds = page[0] + (deed,)
+    return (deeds[1:] if len(deeds) > link.length else deeds, 0 if page[1] + 1 == link.modulus else page[1] + 1)
+
+
+def led_on(link, lot, page, loss):
+    """By page sent at most so many deeds behind one, any number for None, the states of a lot led on, as a set."""
+    here = {(state, page) for state in lot}
+    met = set(here)
+    many = 0
+    while here and many != loss:
+        here = {(table[state], next_page(link, told, deed)) for state, told in here
+                for deed, table in enumerate(link.machine.tables)} - met
+        met |= here
+        many += 1
+    lots = {}
+    for state, told in met:
+        lots.setdefault(told, set()).add(state)
+    return lots
 
 
 def turns_round(machine, state, row):
