@@ -15,7 +15,7 @@ def knots_of(behind):
             ahead[then].append(thing)
     knots = [None] * len(behind)
     heights = [0] * len(behind)
-    for start in reversed(_left_order(behind)):
+    for start in reversed(left_order(behind)):
         waiting = []
         if knots[start] is None:
             knots[start] = start
@@ -30,7 +30,7 @@ def knots_of(behind):
     return (knots, heights, _steps_of(behind, knots, heights))
 
 
-def _left_order(behind):
+def left_order(behind):
     """The things, in the order in which a search that goes as deep as it can leaves them."""
     order = []
     met = [False] * len(behind)

@@ -107,6 +107,14 @@ def states_left(link, states, heard, then, loss):
     return tuple(sorted(set(found)))
 
 
+def row_between(link, heard, then):
+    """The first row of a deed or more that can be lost and leaves a page behind one; None if there is none."""
+    for many in range(1, link.loss + 1):
+        if _fits(link, heard, then, many):
+            return _row_to(then, many)
+    return None
+
+
 def page_fault(link, value):
     """What BadPage tells of any value, None for a page."""
     if not is_sequence(value, 2, 2):

@@ -10,25 +10,25 @@ NONE = "-"
 
 def machine_text(machine):
     """The lines of a machine: how many states, then the table of each deed."""
-    lines = [f"states {machine.states}"] + [_words(table) for table in machine.tables]
+    lines = [f"states {machine.states}"] + [numbers_text(table) for table in machine.tables]
     return "\n".join(lines)
 
 
 def link_text(link):
     """The lines of the link's machine, then that of the link's numbers."""
-    numbers = _words((link.first, link.length, link.loss, link.modulus))
+    numbers = numbers_text((link.first, link.length, link.loss, link.modulus))
     return f"{machine_text(link.machine)}\nlink {numbers}"
 
 
 def row_text(machine, row):
     """The line of a row."""
-    return _words(check_row(machine, row))
+    return numbers_text(check_row(machine, row))
 
 
 def page_text(link, page):
     """The line of a page: its deeds and its number."""
     deeds, number = check_page(link, page)
-    return f"{_words(deeds)}:{number}"
+    return f"{numbers_text(deeds)}:{number}"
 
 
 def read_machine(text):
@@ -58,7 +58,7 @@ def read_row(machine, text):
     """The row that the text tells; BadText with the index of the first word that is wrong."""
     deeds = []
     for at, word in enumerate(_split(_read_text(text))):
-        deed = _read_number(word, machine.deeds)
+        deed = read_number(word, machine.deeds)
         if deed is None or at == LONGEST_ROW:
             raise BadText(at)
         deeds.append(deed)
@@ -70,17 +70,26 @@ def read_page(link, text):
     parts = _read_text(text).split(":")
     if len(parts) != 2:
         raise BadText(1)
-    deeds = [_read_number(word, link.machine.deeds) for word in _split(parts[0])]
-    page = (deeds, _read_number(parts[1], link.modulus))
+    deeds = [read_number(word, link.machine.deeds) for word in _split(parts[0])]
+    page = (deeds, read_number(parts[1], link.modulus))
     # A word that tells no number stands here as None, which is neither a deed nor a page's number.
     if page_fault(link, page) is not None:
         raise BadText(1)
     return as_page(page)
 
 
-def _words(numbers):
+def numbers_text(numbers):
     """The numbers with one blank between."""
     return " ".join([str(number) for number in numbers]) if numbers else NONE
+
+
+def read_number(word, many):
+    """The number below so many that the word tells, None if it tells none."""
+    # Python's int takes more than a text may have: signs, leading zeros, blanks, digits of other scripts.
+    for number in range(many):
+        if word == str(number):
+            return number
+    return None
 
 
 def _split(line):
@@ -95,15 +104,6 @@ def _read_text(value):
     return value
 
 
-def _read_number(word, many):
-    """The number below so many that the word tells, None if it tells none."""
-    # Python's int takes more than a text may have: signs, leading zeros, blanks, digits of other scripts.
-    for number in range(many):
-        if word == str(number):
-            return number
-    return None
-
-
 def _read_tables(lines):
     """The tables that the first lines tell, as many as there are; BadText if there are none."""
     states = _read_states(lines[0])
@@ -111,7 +111,7 @@ def _read_tables(lines):
         raise BadText(1)
     tables = []
     for line in lines[1:MOST_DEEDS + 1]:
-        table = [_read_number(word, states) for word in line.split(" ")]
+        table = [read_number(word, states) for word in line.split(" ")]
         if len(table) != states or None in table:
             break
         tables.append(table)
@@ -125,7 +125,7 @@ def _read_states(line):
     words = line.split(" ")
     if len(words) != 2 or words[0] != "states" or words[1] == "0":
         return None
-    return _read_number(words[1], MOST_STATES + 1)
+    return read_number(words[1], MOST_STATES + 1)
 
 
 def _read_link_line(machine, line):
@@ -134,5 +134,5 @@ def _read_link_line(machine, line):
     if len(words) != 5 or words[0] != "link" or words[4] == "0":
         return None
     bounds = (machine.states, LONGEST_PAGE + 1, MOST_LOSS + 1, MOST_MODULUS + 1)
-    numbers = [_read_number(word, bound) for word, bound in zip(words[1:], bounds)]
+    numbers = [read_number(word, bound) for word, bound in zip(words[1:], bounds)]
     return None if None in numbers else numbers

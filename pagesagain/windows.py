@@ -78,7 +78,7 @@ def telling_pages(machine, first, length, modulus=1):
     need_length(length)
     need_modulus(modulus)
     telling = 0
-    for states in _states_ahead(machine, first, modulus):
+    for states in states_ahead(machine, first, modulus):
         # By the states that a row's deeds leave open, how many rows of so many deeds do so.
         counts = {states: 1}
         for _ in range(length):
@@ -92,7 +92,7 @@ def first_telling(machine, first, modulus=1):
     need_state(machine, first)
     need_modulus(modulus)
     found = []
-    for number, states in enumerate(_states_ahead(machine, first, modulus)):
+    for number, states in enumerate(states_ahead(machine, first, modulus)):
         rows = first_walks(states, lambda here: _led_states(machine, here))
         telling = [row for left, row in rows.items() if len(left) == 1]
         if telling:
@@ -101,17 +101,17 @@ def first_telling(machine, first, modulus=1):
     return min(found)[1:] if found else None
 
 
+def states_ahead(machine, first, modulus):
+    """By number of deeds, modulo, the ascending states to which rows lead with it."""
+    counted = sorted(counted_rows(machine, first, modulus))
+    return [tuple([state for state, like in counted if like == number]) for number in range(modulus)]
+
+
 def _like_states(machine, first, modulus):
     """All (number, lesser, greater): unlike states to which rows of this number of deeds, modulo, lead."""
     counted = sorted(counted_rows(machine, first, modulus))
     return [(number, one, other) for one, number in counted for other, like in counted
             if number == like and one < other]
-
-
-def _states_ahead(machine, first, modulus):
-    """By number of deeds, modulo, the ascending states to which rows lead with it."""
-    counted = sorted(counted_rows(machine, first, modulus))
-    return [tuple([state for state, like in counted if like == number]) for number in range(modulus)]
 
 
 def _led_states(machine, states):

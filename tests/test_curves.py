@@ -29,8 +29,8 @@ class PageCount(Case):
 
     def test_greatest_ones(self):
         self.same(page_count(Link(GREAT, 0, 12, 8, 9)), (4 ** 12 - 1) // 3 + 4 ** 12 * 9)
-        self.same((page_count(Link(ONE, 0, 12, 8, 9)), page_count(Link(ONE, 0, 0, 0)), page_count(Link(ONE, 0, 0, 0, 9))),
-                  (21, 1, 9))
+        self.same([page_count(link) for link in (Link(ONE, 0, 12, 8, 9), Link(ONE, 0, 0, 0), Link(ONE, 0, 0, 0, 9))],
+                  [21, 1, 9])
 
 
 class LengthsByModulus(Case):
@@ -91,7 +91,8 @@ class CheapestPage(Case):
         for length, modulus in itertools.product(range(13), range(1, loss + 2)):
             kinds = machine.deeds ** length * modulus
             if kinds <= machine.states:
-                colours = max(told_colouring(machine.states, told_open(Link(machine, first, length, loss, modulus)))) + 1
+                pairs = told_open(Link(machine, first, length, loss, modulus))
+                colours = max(told_colouring(machine.states, pairs)) + 1
                 costs.append((kinds * colours, (length, modulus, colours)))
         return min(costs)
 

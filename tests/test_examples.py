@@ -14,7 +14,7 @@ class Examples(unittest.TestCase):
         return tried
 
     def test_of_the_document(self):
-        self.assertEqual(self.runs("examples.txt"), 73)
+        self.assertEqual(self.runs("examples.txt"), 87)
 
     def test_of_the_readme(self):
         self.assertGreater(self.runs(os.pardir, "README.md"), 10)
